@@ -149,6 +149,12 @@ func TestFids(t *testing.T) {
 	want(t, "Fids of ends", Fids(renameAct(math.MinInt, -1, "", math.MaxInt, "")), []int{math.MinInt, -1, math.MaxInt})
 }
 
+func TestMakes(t *testing.T) {
+	for kind := -2; kind < 10; kind++ {
+		want(t, fmt.Sprintf("Makes of kind %d", kind), Makes(api.Act{Kind: kind, Fid: 7}), kind == 1 || kind == 2)
+	}
+}
+
 func TestFidsAnswersNewMemory(t *testing.T) {
 	a := renameAct(1, 2, "a", 3, "b")
 	first, again := Fids(a), Fids(a)

@@ -6,6 +6,7 @@ import (
 	"slices"
 	"testing"
 
+	"longabsence/acts"
 	"longabsence/api"
 )
 
@@ -168,7 +169,7 @@ func TestWhatNamesItBehind(t *testing.T) {
 		behind(t, log(makeAct(-1, 0, "a"), a), remove)
 		behind(t, log(dirAct(-1, 0, "a"), storeAct(3, ""), a, storeAct(4, "")), remove)
 		// Ahead of the making it hinders nothing, and goes too; but not if it is itself the first one that makes it.
-		if ahead := log(storeAct(3, ""), a, storeAct(-1, "x"), makeAct(-1, 0, "a"), storeAct(4, "")); making(a) && a.Fid == -1 {
+		if ahead := log(storeAct(3, ""), a, storeAct(-1, "x"), makeAct(-1, 0, "a"), storeAct(4, "")); acts.Makes(a) && a.Fid == -1 {
 			behind(t, ahead, remove)
 		} else {
 			undone(t, ahead, remove, 0, 4)
